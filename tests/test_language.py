@@ -16,6 +16,7 @@ OWN_METHODS = set(
     "append clear copy count endswith extend find get index insert isalnum isalpha isdigit islower isspace isupper "
     "items join keys ljust lower lstrip partition pop remove replace reverse rfind rjust rpartition rsplit rstrip "
     "setdefault split splitlines startswith strip update upper values zfill bit_length".split())
+CHANGES = set("append clear extend insert pop remove reverse setdefault update".split())
 WALKED = set("zip enumerate reversed range".split())
 WORDS = re.compile(
     r"\b(type|typing|typing_extensions|enum|Enum|IntEnum|StrEnum|Flag|IntFlag|Generic|Protocol|ABC|ABCMeta|namedtuple"
@@ -82,6 +83,62 @@ def faults_of_calls(tree, methods):
                 yield f"L25 {node.lineno} {node.func.attr}"
         if isinstance(node, ast.Call) and node.keywords:
             yield f"L22 {node.lineno}: a keyword; see whether the rule lists it, and list it here"
+
+
+def faults_of_sets(tree):
+    """L24: a set stands beside in, == or !=, or straight within sorted or len."""
+    allowed = set()
+    for node in ast.walk(tree):
+        if isinstance(node, ast.Compare):
+            allowed.update([node.left, *node.comparators])
+        if isinstance(node, ast.Call) and isinstance(node.func, ast.Name) and node.func.id in ("sorted", "len"):
+            allowed.update(node.args)
+    for node in ast.walk(tree):
+        if isinstance(node, ast.Call) and isinstance(node.func, ast.Name) and node.func.id in ("set", "frozenset"):
+            if node not in allowed:
+                yield f"L24 {node.lineno}"
+
+
+def walked_values(loop):
+    """What a loop walks, itself or through enumerate, zip, reversed or items."""
+    walked = [loop.iter]
+    if isinstance(loop.iter, ast.Call) and isinstance(loop.iter.func, ast.Name):
+        walked = loop.iter.args if loop.iter.func.id in ("enumerate", "zip", "reversed") else []
+    if isinstance(loop.iter, ast.Call) and isinstance(loop.iter.func, ast.Attribute):
+        walked = [loop.iter.func.value]
+    return {ast.dump(value) for value in walked}
+
+
+def faults_of_walks(tree):
+    """L23: what a loop walks is not changed in it."""
+    for loop in [n for n in ast.walk(tree) if isinstance(n, ast.For)]:
+        walked = walked_values(loop)
+        for node in [n for statement in loop.body for n in ast.walk(statement)]:
+            changed = None
+            if isinstance(node, ast.Call) and isinstance(node.func, ast.Attribute) and node.func.attr in CHANGES:
+                changed = node.func.value
+            if isinstance(node, ast.Subscript) and isinstance(node.ctx, ast.Store):
+                changed = node.value
+            if changed is not None and ast.dump(changed) in walked:
+                yield f"L23 {node.lineno}"
+
+
+def faults_of_plainness(tree):
+    """L15, L19, L21, L27: stricter than the rules, as the package has no need of what they allow."""
+    for node in tree.body:
+        if isinstance(node, ast.Assign) and isinstance(node.value, (ast.List, ast.Dict)):
+            yield f"L15 {node.lineno}: a tuple is enough at a file's top"
+    for node in ast.walk(tree):
+        if isinstance(node, (ast.Try, ast.Raise)):
+            yield f"L19 {node.lineno}"
+        if isinstance(node, ast.arg) and node.annotation or isinstance(node, ast.FunctionDef) and node.returns:
+            yield f"L21 {node.lineno}"
+        if isinstance(node, ast.Constant) and isinstance(node.value, str) and "%" in node.value:
+            yield f"L27 {node.lineno}"
+        if isinstance(node, ast.ClassDef):
+            methods = [x.name for x in node.body if isinstance(x, ast.FunctionDef)]
+            if len(set(methods)) != len(methods):
+                yield f"L18 {node.lineno}: a method twice"
 
 
 def faults_of_forms(tree):
@@ -158,6 +215,7 @@ def faults(text, methods):
     imported = {x.name for n in tree.body if isinstance(n, ast.ImportFrom) for x in n.names}
     defined = {n.name for n in ast.walk(tree) if isinstance(n, (ast.FunctionDef, ast.ClassDef))}
     found = list(faults_of_text(text)) + list(faults_of_top(tree)) + list(faults_of_forms(tree))
+    found += list(faults_of_sets(tree)) + list(faults_of_walks(tree)) + list(faults_of_plainness(tree))
     return found + list(faults_of_names(tree, imported, defined)) + list(faults_of_calls(tree, methods))
 
 
@@ -173,6 +231,21 @@ class LanguageTest(unittest.TestCase):
         methods = own_methods(texts.values())
         for name, text in texts.items():
             self.assertEqual(faults(text, methods), [], name)
+
+    def test_names_come_from_the_files_that_define_them_and_in_no_circle(self):
+        trees = {f"vesselriddle.{path.stem}": ast.parse(path.read_text(encoding="utf-8")) for path in package_files()}
+        drawn = {}
+        for name, tree in trees.items():
+            rows = [node for node in tree.body if isinstance(node, ast.ImportFrom)]
+            drawn[name] = {row.module for row in rows}
+            for row in rows:
+                there = {n.name for n in trees[row.module].body if isinstance(n, (ast.FunctionDef, ast.ClassDef))}
+                there |= {n.targets[0].id for n in trees[row.module].body if isinstance(n, ast.Assign)}
+                self.assertEqual([x.name for x in row.names if x.name not in there], [], name)
+        while drawn:
+            ends = [name for name, modules in drawn.items() if not modules & set(drawn)]
+            self.assertNotEqual(ends, [], "files draw from one another")
+            drawn = {name: modules for name, modules in drawn.items() if name not in ends}
 
     def test_only_python_files_with_plain_names(self):
         for path in PACKAGE.rglob("*"):
@@ -194,6 +267,10 @@ class LanguageTest(unittest.TestCase):
                      "def f():\n    print(1)\n", "def f(a):\n    a.sort()\n", "# a type\n",
                      "def f():\n    return 1.5\n", "def f():\n    a = range(3)\n    return a\n",
                      "x = 1\nx = 2\n", "class C:\n    x = 1\n",
+                     "def f(a):\n    b = set(a)\n    return b\n", "def f(a):\n    for b in a:\n        a.append(b)\n",
+                     "def f(a):\n    for b in enumerate(a):\n        a[b] = 1\n", "x = [1]\n",
+                     "def f(a: int):\n    return a\n", "x = '%'\n",
+                     "class C:\n    def f(self):\n        pass\n\n    def f(self):\n        pass\n",
                      "x = [y for y in (1, 2)]\n", "def f():\n\treturn 1\n", "# \u00e9\n"):
             self.assertNotEqual(faults(text, set()), [], text)
 
